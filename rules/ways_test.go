@@ -1,0 +1,167 @@
+package rules
+
+import (
+	"go/ast"
+	"go/parser"
+	"go/token"
+	"testing"
+)
+
+// functions are the functions of a layer, by name.
+func functions(t *testing.T, layer string) map[string]*ast.FuncDecl {
+	out := map[string]*ast.FuncDecl{}
+	for _, name := range sources(t, layer) {
+		file, err := parser.ParseFile(token.NewFileSet(), name, nil, 0)
+		if err != nil {
+			t.Fatal(err)
+		}
+		for _, d := range file.Decls {
+			if f, ok := d.(*ast.FuncDecl); ok {
+				out[f.Name.Name] = f
+			}
+		}
+	}
+	return out
+}
+
+// variables are the types of a layer's package-level variables, by name; nil, where none is written.
+func variables(t *testing.T, layer string) map[string]ast.Expr {
+	out := map[string]ast.Expr{}
+	for _, name := range sources(t, layer) {
+		file, err := parser.ParseFile(token.NewFileSet(), name, nil, 0)
+		if err != nil {
+			t.Fatal(err)
+		}
+		for _, d := range file.Decls {
+			g, ok := d.(*ast.GenDecl)
+			if !ok || g.Tok != token.VAR {
+				continue
+			}
+			for _, s := range g.Specs {
+				v := s.(*ast.ValueSpec)
+				for _, n := range v.Names {
+					out[n.Name] = v.Type
+				}
+			}
+		}
+	}
+	return out
+}
+
+// has tells whether f is there, and one of the nodes below it is such a one.
+func has(f *ast.FuncDecl, such func(ast.Node) bool) bool {
+	if f == nil {
+		return false
+	}
+	found := false
+	ast.Inspect(f, func(m ast.Node) bool {
+		found = found || m != nil && such(m)
+		return !found
+	})
+	return found
+}
+
+func isClosure(n ast.Node) bool {
+	_, ok := n.(*ast.FuncLit)
+	return ok
+}
+
+func isFor(n ast.Node) bool {
+	_, ok := n.(*ast.ForStmt)
+	return ok
+}
+
+// isNamed tells whether n is pack.name.
+func isNamed(n ast.Node, pack, name string) bool {
+	s, ok := n.(*ast.SelectorExpr)
+	if !ok || s.Sel.Name != name {
+		return false
+	}
+	p, ok := s.X.(*ast.Ident)
+	return ok && p.Name == pack
+}
+
+// rangedCall is the name of the function whose answer n ranges over, or empty.
+func rangedCall(n ast.Node) string {
+	r, ok := n.(*ast.RangeStmt)
+	if !ok {
+		return ""
+	}
+	call, ok := r.X.(*ast.CallExpr)
+	if !ok {
+		return ""
+	}
+	name, ok := call.Fun.(*ast.Ident)
+	if !ok {
+		return ""
+	}
+	return name.Name
+}
+
+// isRangeOverLength finds a range over what one of the builtin functions len and min tells, which is an integer.
+func isRangeOverLength(n ast.Node) bool {
+	name := rangedCall(n)
+	return name == "len" || name == "min"
+}
+
+// isRangeOverFunction finds a range over a function of two values, of those that all has.
+func isRangeOverFunction(n ast.Node, all map[string]*ast.FuncDecl) bool {
+	r, ok := n.(*ast.RangeStmt)
+	if !ok || r.Key == nil || r.Value == nil {
+		return false
+	}
+	f := all[rangedCall(n)]
+	return f != nil && has(f, func(n ast.Node) bool { return isNamed(n, "iter", "Seq2") })
+}
+
+func TestWaysOfOctet(t *testing.T) {
+	all := functions(t, "octet")
+	for _, name := range []string{"Not", "Count", "pairwise", "digits"} {
+		if !has(all[name], isRangeOverLength) {
+			t.Errorf("%s: no range over an integer", name)
+		}
+	}
+	for name, f := range all {
+		if has(f, isFor) {
+			t.Errorf("%s: a for that is no range", name)
+		}
+	}
+	for _, name := range []string{"And", "Or", "Xor"} {
+		if !has(all[name], isClosure) {
+			t.Errorf("%s: no closure", name)
+		}
+	}
+	if !has(all["Get"], func(n ast.Node) bool { return isRangeOverFunction(n, all) }) {
+		t.Error("Get: no range over a function of two values")
+	}
+}
+
+func TestWaysOfCrc(t *testing.T) {
+	all, kept := functions(t, "crc"), variables(t, "crc")
+	if table, ok := kept["afterByte"].(*ast.ArrayType); !ok || table.Len == nil {
+		t.Error("the table is no array")
+	}
+	if kept["made"] == nil || !isNamed(kept["made"], "sync", "Once") {
+		t.Error("the table is not made once")
+	}
+	if len(kept) != 2 {
+		t.Errorf("more is kept than the table: %d variables", len(kept))
+	}
+	for _, name := range []string{"extend", "makeTable"} {
+		if !has(all[name], isRangeOverLength) {
+			t.Errorf("%s: no range over an integer", name)
+		}
+	}
+	for name, f := range all {
+		if has(f, isFor) {
+			t.Errorf("%s: a for that is no range", name)
+		}
+		makes := has(f, func(n ast.Node) bool {
+			call, ok := n.(*ast.CallExpr)
+			return ok && isNamed(call.Fun, "made", "Do")
+		})
+		if makes != (name == "extend") {
+			t.Errorf("%s: makes the table: %v", name, makes)
+		}
+	}
+}

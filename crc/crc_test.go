@@ -254,15 +254,18 @@ func TestTextsOfOneSumOpen(t *testing.T) {
 	}
 }
 
+// A short text and a long one, as only one of them takes the table.
 func TestManyAskAtOnce(t *testing.T) {
+	long := strings.Repeat("123456789", 500)
+	want := bitByBit(long)
 	var all sync.WaitGroup
 	wrong := make([]int, 16)
 	for i := range wrong {
 		all.Add(1)
 		go func() {
 			defer all.Done()
-			for range 100 {
-				if crc.Sum("123456789") != 3421780262 {
+			for range 20 {
+				if crc.Sum("123456789") != 3421780262 || crc.Sum(long) != want {
 					wrong[i]++
 				}
 			}

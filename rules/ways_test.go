@@ -71,14 +71,15 @@ func isFor(n ast.Node) bool {
 	return ok
 }
 
+func isIdent(n ast.Node, name string) bool {
+	i, ok := n.(*ast.Ident)
+	return ok && i.Name == name
+}
+
 // isNamed tells whether n is pack.name.
 func isNamed(n ast.Node, pack, name string) bool {
 	s, ok := n.(*ast.SelectorExpr)
-	if !ok || s.Sel.Name != name {
-		return false
-	}
-	p, ok := s.X.(*ast.Ident)
-	return ok && p.Name == pack
+	return ok && s.Sel.Name == name && isIdent(s.X, pack)
 }
 
 // rangedCall is the name of the function whose answer n ranges over, or empty.
@@ -147,7 +148,7 @@ func TestWaysOfCrc(t *testing.T) {
 	if len(kept) != 2 {
 		t.Errorf("more is kept than the table: %d variables", len(kept))
 	}
-	for _, name := range []string{"extend", "makeTable"} {
+	for _, name := range []string{"byBits", "byTable", "makeTable"} {
 		if !has(all[name], isRangeOverLength) {
 			t.Errorf("%s: no range over an integer", name)
 		}
@@ -160,8 +161,18 @@ func TestWaysOfCrc(t *testing.T) {
 			call, ok := n.(*ast.CallExpr)
 			return ok && isNamed(call.Fun, "made", "Do")
 		})
-		if makes != (name == "extend") {
+		if makes != (name == "byTable") {
 			t.Errorf("%s: makes the table: %v", name, makes)
 		}
+		reads := has(f, func(n ast.Node) bool {
+			i, ok := n.(*ast.IndexExpr)
+			return ok && isIdent(i.X, "afterByte")
+		})
+		if reads && name != "byTable" && name != "makeTable" {
+			t.Errorf("%s: reads the table, that may not be made yet", name)
+		}
+	}
+	if !has(all["extend"], func(n ast.Node) bool { return isIdent(n, "byTable") }) {
+		t.Error("extend: never reads the table")
 	}
 }

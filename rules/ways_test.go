@@ -7,7 +7,7 @@ import (
 	"testing"
 )
 
-// functions are the functions of a layer, by name.
+// functions are the functions of a layer, by name; of methods of one name the last one.
 func functions(t *testing.T, layer string) map[string]*ast.FuncDecl {
 	out := map[string]*ast.FuncDecl{}
 	for _, name := range sources(t, layer) {
@@ -174,5 +174,72 @@ func TestWaysOfCrc(t *testing.T) {
 	}
 	if !has(all["extend"], func(n ast.Node) bool { return isIdent(n, "byTable") }) {
 		t.Error("extend: never reads the table")
+	}
+}
+
+// interfaces are the names of the methods of a layer's interface types, by the types' names.
+func interfaces(t *testing.T, layer string) map[string][]string {
+	out := map[string][]string{}
+	for _, name := range sources(t, layer) {
+		file, err := parser.ParseFile(token.NewFileSet(), name, nil, 0)
+		if err != nil {
+			t.Fatal(err)
+		}
+		ast.Inspect(file, func(n ast.Node) bool {
+			s, ok := n.(*ast.TypeSpec)
+			if !ok {
+				return true
+			}
+			if i, ok := s.Type.(*ast.InterfaceType); ok {
+				for _, m := range i.Methods.List {
+					for _, id := range m.Names {
+						out[s.Name.Name] = append(out[s.Name.Name], id.Name)
+					}
+				}
+			}
+			return true
+		})
+	}
+	return out
+}
+
+// callsMethod tells whether f calls that method of its parameter of that type.
+func callsMethod(f *ast.FuncDecl, kind, method string) bool {
+	if f == nil {
+		return false
+	}
+	for _, p := range f.Type.Params.List {
+		if !isIdent(p.Type, kind) {
+			continue
+		}
+		for _, name := range p.Names {
+			if has(f, func(n ast.Node) bool {
+				call, ok := n.(*ast.CallExpr)
+				return ok && isNamed(call.Fun, name.Name, method)
+			}) {
+				return true
+			}
+		}
+	}
+	return false
+}
+
+func TestWaysOfFlash(t *testing.T) {
+	all, methods := functions(t, "flash"), interfaces(t, "flash")["step"]
+	if len(methods) == 0 {
+		t.Error("steps are no interface")
+	}
+	for _, m := range methods {
+		if !callsMethod(all["take"], "step", m) {
+			t.Errorf("take: method %s of a step is not called", m)
+		}
+	}
+	for _, name := range []string{"Erase", "Program"} {
+		if !has(all[name], func(n ast.Node) bool { return isIdent(n, "take") }) {
+			t.Errorf("%s: is no step", name)
+		}
+	}
+	if !has(all["Free"], isClosure) {
+		t.Error("Free: no closure")
 	}
 }

@@ -105,14 +105,14 @@ func isRangeOverLength(n ast.Node) bool {
 	return name == "len" || name == "min"
 }
 
-// isRangeOverFunction finds a range over a function of two values, of those that all has.
-func isRangeOverFunction(n ast.Node, all map[string]*ast.FuncDecl) bool {
+// isRangeOverFunction finds a range over a function that one of those in all answers: of iter's type Seq, or Seq2.
+func isRangeOverFunction(n ast.Node, all map[string]*ast.FuncDecl, kind string) bool {
 	r, ok := n.(*ast.RangeStmt)
-	if !ok || r.Key == nil || r.Value == nil {
+	if !ok || r.Key == nil || (r.Value != nil) != (kind == "Seq2") {
 		return false
 	}
 	f := all[rangedCall(n)]
-	return f != nil && has(f, func(n ast.Node) bool { return isNamed(n, "iter", "Seq2") })
+	return f != nil && has(f, func(n ast.Node) bool { return isNamed(n, "iter", kind) })
 }
 
 func TestWaysOfOctet(t *testing.T) {
@@ -132,7 +132,7 @@ func TestWaysOfOctet(t *testing.T) {
 			t.Errorf("%s: no closure", name)
 		}
 	}
-	if !has(all["Get"], func(n ast.Node) bool { return isRangeOverFunction(n, all) }) {
+	if !has(all["Get"], func(n ast.Node) bool { return isRangeOverFunction(n, all, "Seq2") }) {
 		t.Error("Get: no range over a function of two values")
 	}
 }
@@ -241,5 +241,29 @@ func TestWaysOfFlash(t *testing.T) {
 	}
 	if !has(all["Free"], isClosure) {
 		t.Error("Free: no closure")
+	}
+}
+
+// isCut finds what is cut with three places, or with fewer.
+func isCut(n ast.Node, three bool) bool {
+	s, ok := n.(*ast.SliceExpr)
+	return ok && s.Slice3 == three
+}
+
+func TestWaysOfRecord(t *testing.T) {
+	all := functions(t, "record")
+	if !has(all["halves"], func(n ast.Node) bool { return isCut(n, true) }) {
+		t.Error("halves: not cut with three places")
+	}
+	for name, f := range all {
+		if has(f, func(n ast.Node) bool { return isCut(n, false) }) {
+			t.Errorf("%s: cuts with less than three places", name)
+		}
+	}
+	if !has(all["Read"], func(n ast.Node) bool { return isIdent(n, "halves") }) {
+		t.Error("Read: cuts no halves")
+	}
+	if !has(all["Clear"], func(n ast.Node) bool { return isRangeOverFunction(n, all, "Seq") }) {
+		t.Error("Clear: no range over a function")
 	}
 }

@@ -267,3 +267,33 @@ func TestWaysOfRecord(t *testing.T) {
 		t.Error("Clear: no range over a function")
 	}
 }
+
+// handsOn tells whether f hands a closure, and a method of one of its variables that is not called there, to that function.
+func handsOn(f *ast.FuncDecl, name string) (closure, method bool) {
+	has(f, func(n ast.Node) bool {
+		call, ok := n.(*ast.CallExpr)
+		if !ok || !isIdent(call.Fun, name) {
+			return false
+		}
+		for _, a := range call.Args {
+			_, isMethod := a.(*ast.SelectorExpr)
+			closure, method = closure || isClosure(a), method || isMethod
+		}
+		return false
+	})
+	return closure, method
+}
+
+func TestWaysOfPage(t *testing.T) {
+	all := functions(t, "page")
+	for _, name := range []string{"Records", "mark"} {
+		if !has(all[name], func(n ast.Node) bool { return isRangeOverFunction(n, all, "Seq2") }) {
+			t.Errorf("%s: no range over a function of two values", name)
+		}
+	}
+	for _, name := range []string{"Bad", "Next"} {
+		if closure, method := handsOn(all[name], "mark"); !closure || !method {
+			t.Errorf("%s: counts by a closure: %v, by a method value: %v", name, closure, method)
+		}
+	}
+}

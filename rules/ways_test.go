@@ -297,3 +297,55 @@ func TestWaysOfPage(t *testing.T) {
 		}
 	}
 }
+
+// methodOf is that method of a layer's type; nil, if there is none.
+func methodOf(t *testing.T, layer, kind, method string) *ast.FuncDecl {
+	for _, name := range sources(t, layer) {
+		file, err := parser.ParseFile(token.NewFileSet(), name, nil, 0)
+		if err != nil {
+			t.Fatal(err)
+		}
+		for _, d := range file.Decls {
+			if f, ok := d.(*ast.FuncDecl); ok && f.Recv != nil && f.Name.Name == method && isIdent(f.Recv.List[0].Type, kind) {
+				return f
+			}
+		}
+	}
+	return nil
+}
+
+// isVariadic tells whether the last parameter of f is any number of them.
+func isVariadic(f *ast.FuncDecl) bool {
+	if f == nil || len(f.Type.Params.List) == 0 {
+		return false
+	}
+	_, ok := f.Type.Params.List[len(f.Type.Params.List)-1].Type.(*ast.Ellipsis)
+	return ok
+}
+
+func TestWaysOfValue(t *testing.T) {
+	all, methods := functions(t, "value"), interfaces(t, "value")["kind"]
+	callers := map[string]string{"inRange": "kindOfValue", "only": "kindOfValue", "join": "Join", "least": "Least", "sum": "Sum"}
+	if len(methods) != len(callers) {
+		t.Errorf("the methods of kinds: %v", methods)
+	}
+	for _, m := range methods {
+		if !has(all[callers[m]], func(n ast.Node) bool {
+			call, ok := n.(*ast.CallExpr)
+			return ok && isNamed(call.Fun, "k", m)
+		}) {
+			t.Errorf("method %s of a kind is not called", m)
+		}
+		for _, kind := range []string{"register", "counter", "flags"} {
+			if methodOf(t, "value", kind, m) == nil {
+				t.Errorf("%s has no method %s", kind, m)
+			}
+		}
+	}
+	if !isVariadic(all["isBehind"]) || !has(methodOf(t, "value", "register", "join"), func(n ast.Node) bool { return isIdent(n, "isBehind") }) {
+		t.Error("parts of registers are not told to a variadic function")
+	}
+	if closure, _ := handsOn(methodOf(t, "value", "counter", "join"), "row"); !closure {
+		t.Error("counters are not joined place by place by a closure")
+	}
+}

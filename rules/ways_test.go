@@ -4,6 +4,7 @@ import (
 	"go/ast"
 	"go/parser"
 	"go/token"
+	"slices"
 	"testing"
 )
 
@@ -306,12 +307,20 @@ func methodOf(t *testing.T, layer, kind, method string) *ast.FuncDecl {
 			t.Fatal(err)
 		}
 		for _, d := range file.Decls {
-			if f, ok := d.(*ast.FuncDecl); ok && f.Recv != nil && f.Name.Name == method && isIdent(f.Recv.List[0].Type, kind) {
+			if f, ok := d.(*ast.FuncDecl); ok && f.Recv != nil && f.Name.Name == method && isReceiver(f.Recv.List[0].Type, kind) {
 				return f
 			}
 		}
 	}
 	return nil
+}
+
+// isReceiver tells whether n is that type, or a pointer to it.
+func isReceiver(n ast.Node, kind string) bool {
+	if star, ok := n.(*ast.StarExpr); ok {
+		n = star.X
+	}
+	return isIdent(n, kind)
 }
 
 // isVariadic tells whether the last parameter of f is any number of them.
@@ -348,4 +357,114 @@ func TestWaysOfValue(t *testing.T) {
 	if closure, _ := handsOn(methodOf(t, "value", "counter", "join"), "row"); !closure {
 		t.Error("counters are not joined place by place by a closure")
 	}
+}
+
+// structs are the fields of a layer's struct types, by the types' names.
+func structs(t *testing.T, layer string) map[string][]*ast.Field {
+	out := map[string][]*ast.Field{}
+	for _, name := range sources(t, layer) {
+		file, err := parser.ParseFile(token.NewFileSet(), name, nil, 0)
+		if err != nil {
+			t.Fatal(err)
+		}
+		ast.Inspect(file, func(n ast.Node) bool {
+			if s, ok := n.(*ast.TypeSpec); ok {
+				if body, ok := s.Type.(*ast.StructType); ok {
+					out[s.Name.Name] = body.Fields.List
+				}
+			}
+			return true
+		})
+	}
+	return out
+}
+
+// embeds tells whether one of the fields is of that type, and has no name of its own.
+func embeds(fields []*ast.Field, kind string) bool {
+	for _, f := range fields {
+		if len(f.Names) == 0 && isIdent(f.Type, kind) {
+			return true
+		}
+	}
+	return false
+}
+
+// methodsIn are the methods of a variable that are values of a map which is written out below f, by name.
+func methodsIn(f *ast.FuncDecl, of string) []string {
+	var out []string
+	has(f, func(n ast.Node) bool {
+		lit, ok := n.(*ast.CompositeLit)
+		if !ok {
+			return false
+		}
+		if _, ok := lit.Type.(*ast.MapType); !ok {
+			return false
+		}
+		for _, e := range lit.Elts {
+			if s, ok := e.(*ast.KeyValueExpr).Value.(*ast.SelectorExpr); ok && isIdent(s.X, of) {
+				out = append(out, s.Sel.Name)
+			}
+		}
+		return false
+	})
+	slices.Sort(out)
+	return out
+}
+
+// isCall finds a call of the function of that name.
+func isCall(n ast.Node, name string) bool {
+	call, ok := n.(*ast.CallExpr)
+	return ok && isIdent(call.Fun, name)
+}
+
+// recovers tells whether f defers a closure that recovers.
+func recovers(f *ast.FuncDecl) bool {
+	return has(f, func(n ast.Node) bool {
+		d, ok := n.(*ast.DeferStmt)
+		if !ok || !isClosure(d.Call.Fun) {
+			return false
+		}
+		found := false
+		ast.Inspect(d.Call.Fun, func(n ast.Node) bool {
+			found = found || isCall(n, "recover")
+			return true
+		})
+		return found
+	})
+}
+
+func TestWaysOfEntry(t *testing.T) {
+	all, kinds := functions(t, "entry"), []string{"counter", "flags", "register"}
+	if got := methodsIn(all["kinds"], "w"); !slices.Equal(got, kinds) {
+		t.Errorf("the kinds that are written by method values in a map: %v", got)
+	}
+	if !has(all["Put"], func(n ast.Node) bool {
+		i, ok := n.(*ast.IndexExpr)
+		return ok && isMethodCall(i.X, "w", "kinds")
+	}) {
+		t.Error("Put: takes no kind out of the map")
+	}
+	if !recovers(all["Get"]) || !has(all["Get"], func(n ast.Node) bool { return isCall(n, "read") }) {
+		t.Error("Get: recovers from nothing in a deferred function")
+	}
+	if !has(all["insist"], func(n ast.Node) bool { return isCall(n, "panic") }) || !has(all["read"], func(n ast.Node) bool { return isCall(n, "insist") }) {
+		t.Error("what is read does not give up by a panic")
+	}
+	if !embeds(structs(t, "entry")["writer"], "text") {
+		t.Error("what is put together embeds no text")
+	}
+	for _, promoted := range []string{"add", "number", "fill"} {
+		if methodOf(t, "entry", "text", promoted) == nil || methodOf(t, "entry", "writer", promoted) != nil {
+			t.Errorf("method %s is not the text's alone", promoted)
+		}
+		if !has(all["Put"], func(n ast.Node) bool { return isMethodCall(n, "w", promoted) }) {
+			t.Errorf("Put: calls no promoted method %s", promoted)
+		}
+	}
+}
+
+// isMethodCall finds a call of that method of that variable.
+func isMethodCall(n ast.Node, of, method string) bool {
+	call, ok := n.(*ast.CallExpr)
+	return ok && isNamed(call.Fun, of, method)
 }

@@ -463,6 +463,49 @@ func TestWaysOfEntry(t *testing.T) {
 	}
 }
 
+// embedsNamed tells whether one of the fields is of the type pack.name, and has no name of its own.
+func embedsNamed(fields []*ast.Field, pack, name string) bool {
+	return slices.ContainsFunc(fields, func(f *ast.Field) bool { return len(f.Names) == 0 && isNamed(f.Type, pack, name) })
+}
+
+// handsLibrary tells whether f hands a closure to that function of the library.
+func handsLibrary(f *ast.FuncDecl, pack, name string) bool {
+	return has(f, func(n ast.Node) bool {
+		call, ok := n.(*ast.CallExpr)
+		return ok && isNamed(call.Fun, pack, name) && slices.ContainsFunc(call.Args, func(a ast.Expr) bool { return isClosure(a) })
+	})
+}
+
+func TestWaysOfArena(t *testing.T) {
+	all := functions(t, "arena")
+	if !handsLibrary(all["search"], "slices", "BinarySearchFunc") {
+		t.Error("search: hands no closure to the library")
+	}
+	for _, name := range []string{"Find", "join"} {
+		if !has(all[name], func(n ast.Node) bool { return isCall(n, "search") }) {
+			t.Errorf("%s: the library finds nothing in the Index", name)
+		}
+	}
+	for _, name := range []string{"All", "Chunk", "Below"} {
+		if !has(all[name], func(n ast.Node) bool { return isRangeOverFunction(n, all, "Seq2") }) {
+			t.Errorf("%s: no range over a function of two values", name)
+		}
+	}
+	if !embedsNamed(structs(t, "arena")["changing"], "api", "Arena") {
+		t.Error("an arena that is changed embeds none")
+	}
+	for _, promoted := range []string{"Cap", "Slots", "Index"} {
+		if !has(methodOf(t, "arena", "changing", "join"), func(n ast.Node) bool { return isNamed(n, "c", promoted) }) {
+			t.Errorf("join: the field %s is not promoted", promoted)
+		}
+	}
+	for _, name := range []string{"Join", "Merge"} {
+		if !has(all[name], func(n ast.Node) bool { return isMethodCall(n, "c", "join") }) {
+			t.Errorf("%s: changes no arena that embeds one", name)
+		}
+	}
+}
+
 // isMethodCall finds a call of that method of that variable.
 func isMethodCall(n ast.Node, of, method string) bool {
 	call, ok := n.(*ast.CallExpr)

@@ -506,6 +506,54 @@ func TestWaysOfArena(t *testing.T) {
 	}
 }
 
+// handsChecks are how many closures f hands to that function: those that are written there, and those that the functions in all make which it calls there.
+func handsChecks(f *ast.FuncDecl, name string, all map[string]*ast.FuncDecl) (closures, others int) {
+	has(f, func(n ast.Node) bool {
+		if !isCall(n, name) {
+			return false
+		}
+		for _, a := range n.(*ast.CallExpr).Args {
+			if isClosure(a) || makesClosure(a, all) {
+				closures++
+			} else {
+				others++
+			}
+		}
+		return false
+	})
+	return closures, others
+}
+
+// makesClosure tells whether n calls a function of all in which a closure stands.
+func makesClosure(n ast.Node, all map[string]*ast.FuncDecl) bool {
+	call, ok := n.(*ast.CallExpr)
+	if !ok {
+		return false
+	}
+	maker, ok := call.Fun.(*ast.Ident)
+	return ok && has(all[maker.Name], isClosure)
+}
+
+func TestWaysOfDelta(t *testing.T) {
+	all := functions(t, "delta")
+	if !isVariadic(all["refusal"]) {
+		t.Error("refusal: is not variadic")
+	}
+	for name, least := range map[string]int{"Put": 6, "Delete": 5, "Add": 6, "Set": 3} {
+		if closures, others := handsChecks(all[name], "refusal", all); closures < least || others > 0 {
+			t.Errorf("%s: checked by %d closures, and by %d others", name, closures, others)
+		}
+	}
+	if all["read"] == nil || all["read"].Type.TypeParams == nil {
+		t.Error("read: is not generic")
+	}
+	for _, name := range []string{"Text", "Sum", "Flags"} {
+		if closure, _ := handsOn(all[name], "read"); !closure {
+			t.Errorf("%s: is not read by the generic function", name)
+		}
+	}
+}
+
 // isMethodCall finds a call of that method of that variable.
 func isMethodCall(n ast.Node, of, method string) bool {
 	call, ok := n.(*ast.CallExpr)

@@ -554,6 +554,47 @@ func TestWaysOfDelta(t *testing.T) {
 	}
 }
 
+// arraysOf are the names of what is handed to f in arrays.
+func arraysOf(f *ast.FuncDecl) []string {
+	var out []string
+	if f == nil {
+		return out
+	}
+	for _, p := range f.Type.Params.List {
+		if a, ok := p.Type.(*ast.ArrayType); !ok || a.Len == nil {
+			continue
+		}
+		for _, name := range p.Names {
+			out = append(out, name.Name)
+		}
+	}
+	return out
+}
+
+// isComparison finds where what has that name, all of it, is compared.
+func isComparison(n ast.Node, name string) bool {
+	b, ok := n.(*ast.BinaryExpr)
+	return ok && (b.Op == token.EQL || b.Op == token.NEQ) && (isIdent(b.X, name) || isIdent(b.Y, name))
+}
+
+func TestWaysOfDigest(t *testing.T) {
+	all := functions(t, "digest")
+	compared := slices.ContainsFunc(arraysOf(all["Differ"]), func(name string) bool {
+		return has(all["Differ"], func(n ast.Node) bool { return isComparison(n, name) })
+	})
+	if !compared {
+		t.Error("Differ: compares no array")
+	}
+	for _, name := range []string{"Sums", "In"} {
+		if !has(all[name], func(n ast.Node) bool { return isRangeOverFunction(n, all, "Seq2") }) {
+			t.Errorf("%s: no range over a function of two values", name)
+		}
+	}
+	if !has(all["In"], isClosure) {
+		t.Error("In: no closure")
+	}
+}
+
 // isMethodCall finds a call of that method of that variable.
 func isMethodCall(n ast.Node, of, method string) bool {
 	call, ok := n.(*ast.CallExpr)

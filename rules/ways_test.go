@@ -595,6 +595,48 @@ func TestWaysOfDigest(t *testing.T) {
 	}
 }
 
+// functionFields are the names of those fields that are functions.
+func functionFields(fields []*ast.Field) []string {
+	var out []string
+	for _, f := range fields {
+		if _, ok := f.Type.(*ast.FuncType); !ok {
+			continue
+		}
+		for _, name := range f.Names {
+			out = append(out, name.Name)
+		}
+	}
+	return out
+}
+
+// isArrayOf tells whether n is the type of an array, and no slice, of things of that type.
+func isArrayOf(n ast.Node, kind string) bool {
+	a, ok := n.(*ast.ArrayType)
+	return ok && a.Len != nil && isIdent(a.Elt, kind)
+}
+
+func TestWaysOfConfig(t *testing.T) {
+	all := functions(t, "config")
+	if !has(all["numbers"], func(n ast.Node) bool {
+		lit, ok := n.(*ast.CompositeLit)
+		return ok && isArrayOf(lit.Type, "number")
+	}) {
+		t.Error("numbers: what each number may be stands in no array")
+	}
+	fields := functionFields(structs(t, "config")["number"])
+	if len(fields) == 0 {
+		t.Error("no field of a number is a function")
+	}
+	for _, name := range fields {
+		if !has(all["Check"], func(n ast.Node) bool { return isMethodCall(n, "n", name) }) {
+			t.Errorf("Check: does not call the field %s", name)
+		}
+	}
+	if !has(all["Check"], func(n ast.Node) bool { return rangedCall(n) == "numbers" }) {
+		t.Error("Check: does not go through the array")
+	}
+}
+
 // isMethodCall finds a call of that method of that variable.
 func isMethodCall(n ast.Node, of, method string) bool {
 	call, ok := n.(*ast.CallExpr)

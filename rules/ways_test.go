@@ -637,6 +637,62 @@ func TestWaysOfConfig(t *testing.T) {
 	}
 }
 
+// startsGoroutine finds a goroutine that tells a variable when it is done, however it ends.
+func startsGoroutine(n ast.Node, awaited string) bool {
+	g, ok := n.(*ast.GoStmt)
+	if !ok || !isClosure(g.Call.Fun) {
+		return false
+	}
+	found := false
+	ast.Inspect(g.Call.Fun, func(n ast.Node) bool {
+		d, ok := n.(*ast.DeferStmt)
+		found = found || ok && isMethodCall(d.Call, awaited, "Done")
+		return true
+	})
+	return found
+}
+
+// declares finds a local variable of that name, of the type pack.kind.
+func declares(n ast.Node, name, pack, kind string) bool {
+	v, ok := n.(*ast.ValueSpec)
+	return ok && len(v.Names) == 1 && v.Names[0].Name == name && isNamed(v.Type, pack, kind)
+}
+
+func TestWaysOfBook(t *testing.T) {
+	all := functions(t, "book")
+	for _, name := range []string{"lookThrough", "leastWorn"} {
+		if !has(all[name], func(n ast.Node) bool { return isRangeOverFunction(n, all, "Seq") }) {
+			t.Errorf("%s: no range over a function", name)
+		}
+	}
+	if !isVariadic(all["leastWorn"]) {
+		t.Error("leastWorn: is not variadic")
+	}
+	for name, least := range map[string]int{"Free": 2, "Worst": 3} {
+		if closures, others := handsChecks(all[name], "leastWorn", all); closures < least || others != 1 {
+			t.Errorf("%s: finds the least worn page by %d closures, and %d others beside the device", name, closures, others-1)
+		}
+	}
+	look := all["lookThrough"]
+	for what, such := range map[string]func(ast.Node) bool{
+		"no wait group":                     func(n ast.Node) bool { return declares(n, "looking", "sync", "WaitGroup") },
+		"no goroutine":                      func(n ast.Node) bool { return startsGoroutine(n, "looking") },
+		"awaits no goroutine":               func(n ast.Node) bool { return isMethodCall(n, "looking", "Wait") },
+		"what is spoilt is no atomic":       func(n ast.Node) bool { return declares(n, "spoilt", "atomic", "Int64") },
+		"what is spoilt is not added":       func(n ast.Node) bool { return isMethodCall(n, "spoilt", "Add") },
+		"what was added is not asked again": func(n ast.Node) bool { return isMethodCall(n, "spoilt", "Load") },
+	} {
+		if !has(look, such) {
+			t.Errorf("lookThrough: %s", what)
+		}
+	}
+	for _, name := range []string{"Find", "Load"} {
+		if !has(all[name], func(n ast.Node) bool { return isCall(n, "lookThrough") }) {
+			t.Errorf("%s: looks through no pages at once", name)
+		}
+	}
+}
+
 // isMethodCall finds a call of that method of that variable.
 func isMethodCall(n ast.Node, of, method string) bool {
 	call, ok := n.(*ast.CallExpr)

@@ -254,7 +254,7 @@ func TestTextsOfOneSumOpen(t *testing.T) {
 	}
 }
 
-// A short text and a long one, as only one of them takes the table.
+// A short text and a long one, also added, as only that one takes the table.
 func TestManyAskAtOnce(t *testing.T) {
 	long := strings.Repeat("123456789", 500)
 	want := bitByBit(long)
@@ -265,7 +265,8 @@ func TestManyAskAtOnce(t *testing.T) {
 		go func() {
 			defer all.Done()
 			for range 20 {
-				if crc.Sum("123456789") != 3421780262 || crc.Sum(long) != want {
+				added, _ := crc.Add(0, long)
+				if crc.Sum("123456789") != 3421780262 || crc.Sum(long) != want || added != want {
 					wrong[i]++
 				}
 			}

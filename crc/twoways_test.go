@@ -84,19 +84,56 @@ func TestSealsOnBothSides(t *testing.T) {
 	}
 }
 
-// With a table that is wrong only what is taken out of it is wrong: long texts' sums, and no others.
-func TestOnlyLongTextsTakeTheTable(t *testing.T) {
+// withoutTable does something while the table is wrong, so that what is taken out of it is wrong as well.
+func withoutTable(do func()) {
 	made.Do(makeTable)
 	right := afterByte
 	afterByte = [256]uint32{}
 	defer func() { afterByte = right }()
+	do()
+}
+
+func TestOnlyLongTextsThatAreAddedTakeTheTable(t *testing.T) {
+	withoutTable(func() {
+		for _, n := range lengths() {
+			s := mixed(n)
+			for _, sum := range []int{0, maxSum, library("head")} {
+				got, e := Add(sum, s)
+				want := int(crc32.Update(uint32(sum), crc32.IEEETable, []byte(s)))
+				if right := got == want; right != (n <= maxShort) || e != api.OK {
+					t.Errorf("Add(%d, %d bytes) without the table is right: %v", sum, n, right)
+				}
+			}
+		}
+	})
+}
+
+// Sum, Seal and Open take nothing out of the table, whatever the length: so goroutines may ask for them at once.
+func TestNoOtherCallTakesTheTable(t *testing.T) {
+	withoutTable(func() {
+		for _, n := range lengths() {
+			s := mixed(n)
+			sum := library(s)
+			if got := Sum(s); got != sum {
+				t.Errorf("Sum of %d bytes without the table: %d, not %d", n, got, sum)
+			}
+			sealed := s + string([]byte{byte(sum), byte(sum >> 8), byte(sum >> 16), byte(sum >> 24)})
+			if Seal(s) != sealed {
+				t.Errorf("the seal of %d bytes takes the table", n)
+			}
+			if got, e := Open(sealed); got != s || e != api.OK {
+				t.Errorf("Open of a seal of %d bytes without the table: %d bytes, %v", n, len(got), e)
+			}
+		}
+	})
+}
+
+// A text's sum is worked out by the function, and what is added to nought is read out of the table where it is long: both are the same number.
+func TestSumIsWhatIsAddedToNought(t *testing.T) {
 	for _, n := range lengths() {
 		s := mixed(n)
-		if right := Sum(s) == library(s); right != (n <= maxShort) {
-			t.Errorf("Sum of %d bytes without the table is right: %v", n, right)
+		if got, e := Add(0, s); got != Sum(s) || e != api.OK {
+			t.Errorf("Add(0, %d bytes): %d, %v; Sum is %d", n, got, e, Sum(s))
 		}
-	}
-	if s := mixed(400); Seal(s)[400:] != string([]byte{byte(library(s)), byte(library(s) >> 8), byte(library(s) >> 16), byte(library(s) >> 24)}) {
-		t.Error("a seal of 400 bytes takes the table")
 	}
 }

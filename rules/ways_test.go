@@ -173,9 +173,38 @@ func TestWaysOfCrc(t *testing.T) {
 			t.Errorf("%s: reads the table, that may not be made yet", name)
 		}
 	}
-	if !has(all["extend"], func(n ast.Node) bool { return isIdent(n, "byTable") }) {
-		t.Error("extend: never reads the table")
+	if !has(all["Add"], func(n ast.Node) bool { return isCall(n, "byTable") }) {
+		t.Error("Add: never reads the table")
 	}
+	for _, name := range []string{"Sum", "Seal", "Open"} {
+		for reached := range reach(all, name) {
+			for kept := range kept {
+				if has(all[reached], func(n ast.Node) bool { return isIdent(n, kept) }) {
+					t.Errorf("%s: comes to %s, which names %s", name, reached, kept)
+				}
+			}
+		}
+	}
+}
+
+// reach is the function of that name, and all functions of its layer that it names, or that those name.
+func reach(all map[string]*ast.FuncDecl, name string) map[string]bool {
+	out, todo := map[string]bool{}, []string{name}
+	for len(todo) > 0 {
+		next := todo[0]
+		todo = todo[1:]
+		if all[next] == nil || out[next] {
+			continue
+		}
+		out[next] = true
+		ast.Inspect(all[next], func(n ast.Node) bool {
+			if i, ok := n.(*ast.Ident); ok {
+				todo = append(todo, i.Name)
+			}
+			return true
+		})
+	}
+	return out
 }
 
 // interfaces are the names of the methods of a layer's interface types, by the types' names.

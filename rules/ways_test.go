@@ -727,3 +727,52 @@ func isMethodCall(n ast.Node, of, method string) bool {
 	call, ok := n.(*ast.CallExpr)
 	return ok && isNamed(call.Fun, of, method)
 }
+
+// handsField tells whether f makes a thing of that struct type, one of whose parts is a closure.
+func handsField(f *ast.FuncDecl, kind string) bool {
+	return has(f, func(n ast.Node) bool {
+		lit, ok := n.(*ast.CompositeLit)
+		return ok && isIdent(lit.Type, kind) && slices.ContainsFunc(lit.Elts, func(e ast.Expr) bool { return isClosure(e) })
+	})
+}
+
+// promotes tells whether that method of changing names that field of what is embedded as one of its own.
+func promotes(t *testing.T, layer, method, field string) bool {
+	return has(methodOf(t, layer, "changing", method), func(n ast.Node) bool { return isNamed(n, "c", field) })
+}
+
+func TestWaysOfStore(t *testing.T) {
+	all := functions(t, "store")
+	if !embedsNamed(structs(t, "store")["changing"], "api", "Store") {
+		t.Error("a store that is changed embeds none")
+	}
+	for method, fields := range map[string][]string{"join": {"Arena"}, "boot": {"Flash", "Arena", "Lost", "Next"}, "scrub": {"Flash", "Book", "Arena", "Lost", "Next"}, "do": {"Flash", "Book"}} {
+		for _, promoted := range fields {
+			if !promotes(t, "store", method, promoted) {
+				t.Errorf("%s: the field %s is not promoted", method, promoted)
+			}
+		}
+	}
+	if methodOf(t, "store", "failure", "Error") == nil || !has(methodOf(t, "store", "failure", "Unwrap"), func(n ast.Node) bool { return isNamed(n, "f", "number") }) {
+		t.Error("failures wrap no numbers")
+	}
+	if !has(all["numberOf"], func(n ast.Node) bool { return isMethodCall(n, "errors", "As") }) {
+		t.Error("numberOf: numbers are not told by errors.As")
+	}
+	for _, name := range []string{"Join", "Merge", "Boot", "Scrub"} {
+		if !has(all[name], func(n ast.Node) bool { return isCall(n, "numberOf") }) {
+			t.Errorf("%s: tells no number that an error wraps", name)
+		}
+	}
+	if fields := functionFields(structs(t, "store")["writing"]); !slices.Equal(fields, []string{"write"}) {
+		t.Errorf("what is written stands in the fields %v", fields)
+	}
+	if !has(methodOf(t, "store", "changing", "do"), func(n ast.Node) bool { return isMethodCall(n, "w", "write") }) {
+		t.Error("do: does not call the field")
+	}
+	for _, method := range []string{"join", "boot", "scrub"} {
+		if !handsField(methodOf(t, "store", "changing", method), "writing") {
+			t.Errorf("%s: what is written is no field that is a function", method)
+		}
+	}
+}
